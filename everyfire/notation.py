@@ -35,13 +35,13 @@ def parse_land(text):
         raise InvalidNotation(2)
     links = []
     paths = []
-    for line, words in enumerate(rows[2:], start=3):
+    for number, words in enumerate(rows[2:], start=3):
         if _is_link(words) and len(paths) == 0:
             links.append(_read_link(words))
         elif _is_path(words):
             paths.append((words[1], words[2], int(words[3])))
         else:
-            raise InvalidNotation(line)
+            raise InvalidNotation(number)
     return Land(winds=rows[0][1:], places=rows[1][1:], links=links, paths=paths)
 
 
