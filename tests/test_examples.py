@@ -30,6 +30,40 @@ raises InvalidLand
 >>> parse_land("winds w\\nplaces a b\\nlink l a")
 raises InvalidNotation
 ''',
+    "weathers": '''
+>>> from everyfire.lands import Land
+>>> from everyfire.weathers import wind_at
+>>> land = Land(winds=["north", "west"], places=["a"])
+>>> wind_at(land, [(0, "north"), (30, "west")], 30)
+'west'
+''',
+    "fires": '''
+>>> from everyfire.fires import fastest, slowest, states
+>>> from everyfire.lands import Land
+>>> links = [("ab", "a", "b", [(4, 9), None]), ("bc", "b", "c", [None, (2, 3)])]
+>>> land = Land(winds=["north", "west"], places=["a", "b", "c"], links=links)
+>>> weather = [(0, "north"), (20, "west")]
+>>> (fastest(land, weather, [("a", 0)], []), slowest(land, weather, [("a", 0)], [("b", 7)]))
+([('a', 0), ('b', 4), ('c', 22)], [('a', 0), ('b', None), ('c', None)])
+>>> states(land, weather, [("a", 0)], [("b", 7)])
+[('a', 'surely'), ('b', 'maybe'), ('c', 'maybe')]
+''',
+    "papers": '''
+>>> from everyfire.lands import Land
+>>> from everyfire.papers import paper
+>>> links = [("l1", "a", "b", [(2, 5)]), ("l2", "b", "c", [(1, 1)])]
+>>> land = Land(winds=["calm"], places=["a", "b", "c"], links=links)
+>>> told = paper(land, [(0, "calm")], [("a", 0)], [("c", 4)], "c")
+>>> (told.word, told.labels, told.chain)
+('maybe', [('a', 0), ('b', 5)], [('a', None, 0), ('b', 'l1', 2), ('c', 'l2', 3)])
+''',
+    "sightings": '''
+>>> from everyfire.lands import Land
+>>> from everyfire.sightings import contradictions
+>>> land = Land(winds=["calm"], places=["a", "b"], links=[("l1", "a", "b", [(2, 5)])])
+>>> contradictions(land, [(0, "calm")], [("a", 0)], [], [("b", 4), ("b", 5)], [("b", 3), ("b", 1)])
+[('clear', 'b', 5), ('seen', 'b', 1), ('both', 'b', 4, 3), ('both', 'b', 4, 1), ('both', 'b', 5, 3), ('both', 'b', 5, 1)]
+''',
 }
 
 

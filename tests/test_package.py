@@ -24,7 +24,33 @@ INTERFACE = {
         },
     },
     "notation": {"format_land": "(land)", "parse_land": "(text)"},
+    "weathers": {"check_weather": "(land, weather)", "wind_at": "(land, weather, minute)"},
+    "fires": {
+        "least_numbers": "(land)", "most_numbers": "(land)", "check_numbers": "(land, numbers)",
+        "burning": "(land, weather, starts, breaks, numbers)",
+        "fastest": "(land, weather, starts, breaks)", "slowest": "(land, weather, starts, breaks)",
+        "states": "(land, weather, starts, breaks)", "state_of": "(land, weather, starts, breaks, place)",
+    },
+    "papers": {
+        "Paper": {"__init__": "(self, word, labels, chain)"},
+        "paper": "(land, weather, starts, breaks, place)",
+        "check_paper": "(land, weather, starts, breaks, place, told)",
+    },
+    "sightings": {
+        "denied_clears": "(land, weather, starts, breaks, clears)",
+        "denied_seens": "(land, weather, starts, breaks, seens)",
+        "can_be_clear": "(land, weather, starts, breaks, clears)",
+        "can_be_seen": "(land, weather, starts, breaks, seens)",
+        "contradictions": "(land, weather, starts, breaks, clears, seens)",
+        "bounds_of": "(land, weather, starts, breaks, place)",
+    },
 }
+LIBRARY = {"heapq": {"heappush", "heappop", "heapify"}}
+METHODS = set(
+    "append clear copy count endswith extend find get index insert isalnum isalpha isdigit islower isspace isupper"
+    " items join keys ljust lower lstrip partition pop remove replace reverse rfind rjust rpartition rsplit rstrip"
+    " setdefault split splitlines startswith strip update upper values zfill".split()
+)
 
 BUILTINS = {
     "len", "range", "enumerate", "zip", "min", "max", "sum", "abs", "sorted", "reversed", "int", "str", "bool",
@@ -42,6 +68,24 @@ def sources():
         text = path.read_text(encoding="utf-8")
         rows.append((path, text, ast.parse(text)))
     return rows
+
+
+def bound_by(node):
+    """Return the names that a statement at module level binds."""
+    if isinstance(node, (ast.FunctionDef, ast.ClassDef)):
+        return [node.name]
+    if isinstance(node, ast.ImportFrom):
+        return [told.name for told in node.names]
+    return [told.id for told in getattr(node, "targets", [])]
+
+
+def inner_names(tree):
+    """Return the parameters and local variables of a file."""
+    functions = [node for node in ast.walk(tree) if isinstance(node, (ast.FunctionDef, ast.Lambda))]
+    names = [told.arg for node in functions for told in ast.walk(node) if isinstance(told, ast.arg)]
+    for node in functions:
+        names += [told.id for told in ast.walk(node) if isinstance(told, ast.Name) and isinstance(told.ctx, ast.Store)]
+    return names
 
 
 class InterfaceTest(unittest.TestCase):
@@ -93,8 +137,47 @@ class FormTest(unittest.TestCase):
                 with self.subTest(file=path.name):
                     self.assertNotIsInstance(node, ast.Import)
                     if isinstance(node, ast.ImportFrom):
-                        self.assertTrue(node.module.startswith("everyfire."))
                         self.assertIn(node, tree.body)
+                        self.check_import(node)
+
+    def check_import(self, node):
+        for told in node.names:
+            self.assertIsNone(told.asname)
+            if node.module in LIBRARY:
+                self.assertIn(told.name, LIBRARY[node.module])
+            else:
+                self.assertTrue(node.module.startswith("everyfire."))
+                # A name comes from the very file that defines it.
+                found = getattr(importlib.import_module(node.module), told.name)
+                self.assertEqual(getattr(found, "__module__", node.module), node.module)
+
+    def test_names_are_bound_once(self):
+        for path, _, tree in sources():
+            outer = [name for node in tree.body for name in bound_by(node)]
+            with self.subTest(file=path.name):
+                self.assertEqual(len(outer), len(set(outer)))
+                self.assertEqual([name for name in inner_names(tree) if name in outer or name in EVERY_BUILTIN], [])
+                self.assertFalse([name for name in outer if name in EVERY_BUILTIN])
+
+    def test_methods_and_attributes(self):
+        trees = [tree for _, _, tree in sources()]
+        own = {node.name for tree in trees for node in ast.walk(tree) if isinstance(node, ast.FunctionDef)}
+        attributes = [node for tree in trees for node in ast.walk(tree) if isinstance(node, ast.Attribute)]
+        assigned = {node.attr for node in attributes if isinstance(node.ctx, ast.Store)}
+        for node in attributes:
+            with self.subTest(name=node.attr, line=node.lineno):
+                self.assertIn(node.attr, METHODS | own | assigned)
+        self.assertEqual(assigned & METHODS, set())
+
+    def test_is_and_raise(self):
+        for path, _, tree in sources():
+            for node in ast.walk(tree):
+                with self.subTest(file=path.name, line=getattr(node, "lineno", 0)):
+                    if isinstance(node, ast.Compare) and isinstance(node.ops[0], (ast.Is, ast.IsNot)):
+                        self.assertIsInstance(node.comparators[0], ast.Constant)
+                    if isinstance(node, ast.Raise) and node.exc is not None:
+                        self.assertIsInstance(node.exc, ast.Call)
+                        self.assertIsInstance(node.exc.func, ast.Name)
 
     def test_statements_and_builtins(self):
         for path, _, tree in sources():
