@@ -43,6 +43,11 @@ class Question:
         """Return the question with further breaks."""
         return Question(self.land, self.weather, self.starts, [*self.breaks, *further])
 
+    def without_break(self, number):
+        """Return the question without the break with this number, from 0."""
+        others = [*self.breaks[:number], *self.breaks[number + 1:]]
+        return Question(self.land, self.weather, self.starts, others)
+
     def is_ahead(self, minute, place):
         """Tell whether the minute is ahead of the break of the place."""
         return place not in self.stops or minute < self.stops[place]

@@ -9,21 +9,21 @@ WINDS = ["north", "west", "calm"]
 STRANGE = ["moor", "north", "l0", "", "A", "a ", "two words", "\u00e4"]
 
 
-def random_times(chance, winds, longest):
-    """Return the times of a link: shut in some of the winds."""
+def random_times(chance, winds, longest, shut):
+    """Return the times of a link, which is shut in such a part of the winds."""
     times = []
     for _ in range(winds):
         least = chance.randint(1, longest)
-        times.append(None if chance.random() < 0.3 else (least, least + chance.randint(0, 3 * longest)))
+        times.append(None if chance.random() < shut else (least, least + chance.randint(0, 3 * longest)))
     return times
 
 
-def random_land(chance, places=6, links=10, winds=2, longest=5):
+def random_land(chance, places=6, links=10, winds=2, longest=5, shut=0.3):
     names = "abcdefghijklmnopqrstuvwx"[:places]
     told = []
     for at in range(links):
         one, other = chance.sample(names, 2)
-        told.append((f"l{at}", one, other, random_times(chance, winds, longest)))
+        told.append((f"l{at}", one, other, random_times(chance, winds, longest, shut)))
     return Land(winds=WINDS[:winds], places=list(names), links=told)
 
 

@@ -64,6 +64,35 @@ raises InvalidNotation
 >>> contradictions(land, [(0, "calm")], [("a", 0)], [], [("b", 4), ("b", 5)], [("b", 3), ("b", 1)])
 [('clear', 'b', 5), ('seen', 'b', 1), ('both', 'b', 4, 3), ('both', 'b', 4, 1), ('both', 'b', 5, 3), ('both', 'b', 5, 1)]
 ''',
+    "keeping": '''
+>>> from everyfire.keeping import last_minutes
+>>> from everyfire.lands import Land
+>>> links = [("l1", "a", "b", [(2, 5)]), ("l2", "b", "c", [(1, 1)])]
+>>> land = Land(winds=["calm"], places=["a", "b", "c"], links=links)
+>>> last_minutes(land, [(0, "calm")], [("a", 0)], [], "c")
+[('a', ('until', 0)), ('b', ('until', 2)), ('c', ('until', 3))]
+''',
+    "cuts": '''
+>>> from everyfire.cuts import cut, is_kept
+>>> from everyfire.lands import Land
+>>> times = [(2, 5)]
+>>> links = [("l1", "hut", "wood", times), ("l2", "hut", "heath", times), ("l3", "wood", "farm", times)]
+>>> land = Land(winds=["west"], places=["hut", "wood", "heath", "farm"], links=links + [("l4", "heath", "farm", times)])
+>>> found = cut(land, ["hut"], ["farm"], ["wood", "heath"])
+>>> (found.places, len(found.ways))
+(['wood', 'heath'], 2)
+>>> is_kept(land, ["hut"], ["farm"], ["wood"])
+False
+''',
+    "worths": '''
+>>> from everyfire.lands import Land
+>>> from everyfire.worths import least_offers, worths
+>>> land = Land(winds=["west"], places=["hut", "wood", "farm"], links=[("l1", "hut", "wood", [(2, 5)]), ("l2", "wood", "farm", [(3, 3)])])
+>>> worths(land, [(0, "west")], [("hut", 0)], [("wood", 1)])
+[(('wood', 'farm'), ())]
+>>> least_offers(land, [(0, "west")], [("hut", 0)], [("wood", 3), ("farm", 5), ("wood", 2)], ["farm"])
+[(1,), (2,)]
+''',
 }
 
 

@@ -44,6 +44,24 @@ INTERFACE = {
         "contradictions": "(land, weather, starts, breaks, clears, seens)",
         "bounds_of": "(land, weather, starts, breaks, place)",
     },
+    "keeping": {
+        "last_minute": "(land, weather, starts, breaks, broken, kept)",
+        "last_minutes": "(land, weather, starts, breaks, kept)",
+        "keepers": "(land, weather, starts, breaks, kept)",
+    },
+    "cuts": {
+        "Cut": {"__init__": "(self, places, ways)"},
+        "is_kept": "(land, starts, goals, places)",
+        "cut": "(land, starts, goals, allowed)",
+        "check_cut": "(land, starts, goals, allowed, places, ways)",
+        "single_breaks": "(land, starts, goals, allowed)",
+    },
+    "worths": {
+        "worths": "(land, weather, starts, breaks)",
+        "idle_breaks": "(land, weather, starts, breaks)",
+        "keeps": "(land, weather, starts, breaks, goals)",
+        "least_offers": "(land, weather, starts, offers, goals, *, breaks=(), most=2)",
+    },
 }
 LIBRARY = {"heapq": {"heappush", "heappop", "heapify"}}
 METHODS = set(

@@ -292,9 +292,10 @@ class ChainTest(PaperTestCase):
     def test_minutes_below_0(self):
         self.wrong("surely", [], [("p0", None, -1), ("p1", "l0", 5), ("p2", "l1", 10)])
         self.wrong("surely", [], [("p0", None, -5), ("p1", "l0", 0), ("p2", "l1", 5)])
-        self.ask(LINE, CALM, [("p0", -5)], [], "p1")
-        self.wrong("surely", [], [("p0", None, -5), ("p1", "l0", 0)])
-        self.wrong("surely", [], [("p0", None, -5), ("p1", "l0", 5)])
+        for minute in (-1, -5):
+            self.ask(LINE, CALM, [("p0", minute)], [], "p1")
+            self.wrong("surely", [], [("p0", None, minute), ("p1", "l0", minute + 5)])
+            self.wrong("surely", [], [("p0", None, minute), ("p1", "l0", 5)])
 
 
 class WordsTest(PaperTestCase):
