@@ -53,6 +53,30 @@ def random_question(chance, **sizes):
     return land, random_weather(chance, land), starts, breaks
 
 
+def random_paths(chance, land, paths=9, longest=5):
+    """Return the land with further paths."""
+    for _ in range(paths):
+        land = land.with_path(*chance.sample(land.places, 2), chance.randint(1, longest))
+    return land
+
+
+def random_hands(chance, land, most=3, deeds=7, longest=5):
+    """Return up to so many hands with a plan that is right."""
+    hands = []
+    for name in ("ann", "bob", "carl")[:chance.randint(0, most)]:
+        begin = here = chance.choice(land.places)
+        told = []
+        for _ in range(chance.randint(0, deeds)):
+            walks = land.walks_from(here)
+            if walks and chance.random() < 0.5:
+                here = chance.choice(walks)[0]
+                told.append(("walk", here))
+            else:
+                told.append((chance.choice(["cut", "wait"]), chance.randint(1, longest)))
+        hands.append((name, begin, told))
+    return hands
+
+
 def slow_wind(weather, minute):
     return [wind for begin, wind in weather if begin <= minute][-1]
 
@@ -97,6 +121,16 @@ def large_question(longest=1000, step=2500):
     land = Land(winds=winds, places=places, links=links)
     weather = [(at * step, winds[at % 4]) for at in range(40)]
     return land, weather, [("p0", 3)], [("p20", 90000), ("p7", 5)]
+
+
+def large_paths(land):
+    """Return a land with 60 paths, among them a line along all places."""
+    chance = random.Random(7)
+    for one, other in zip(land.places, land.places[1:]):
+        land = land.with_path(one, other, chance.randint(1, 1000))
+    while len(land.paths) < 60:
+        land = land.with_path(*chance.sample(land.places, 2), chance.randint(1, 1000))
+    return land
 
 
 def raised(ask, *told, **named):

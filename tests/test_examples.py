@@ -93,6 +93,19 @@ False
 >>> least_offers(land, [(0, "west")], [("hut", 0)], [("wood", 3), ("farm", 5), ("wood", 2)], ["farm"])
 [(1,), (2,)]
 ''',
+    "hands": '''
+>>> from everyfire.lands import Land
+>>> from everyfire.hands import dangers
+>>> land = Land(winds=["calm"], places=["a", "b"], links=[("ab", "a", "b", [(3, 9)])], paths=[("a", "b", 2)])
+>>> dangers(land, [(0, "calm")], [("a", 4)], [("ann", "b", [("walk", "a"), ("wait", 1), ("walk", "b"), ("cut", 3)])])
+[('ann', 'b', 7)]
+''',
+    "session": '''
+>>> from everyfire.session import Session
+>>> session = Session()
+>>> session.run("land l\\nwinds calm\\nplaces a b\\nlink ab a b 3-9\\nend\\ncase k l\\nwind 0 calm\\nstart a 0\\nbreak b 5\\nend\\nstates k\\nfree k b\\nask k b")
+['ok', 'ok', 'ok', 'ok', 'a: surely', 'b: maybe', 'ok', 'b: surely']
+''',
 }
 
 

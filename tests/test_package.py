@@ -62,8 +62,29 @@ INTERFACE = {
         "keeps": "(land, weather, starts, breaks, goals)",
         "least_offers": "(land, weather, starts, offers, goals, *, breaks=(), most=2)",
     },
+    "hands": {
+        "stays": "(land, hands)", "breaks_of": "(land, hands)", "end_of": "(land, hands)",
+        "dangers": "(land, weather, starts, hands)", "is_safe": "(land, weather, starts, hands)",
+        "keeps": "(land, weather, starts, hands, place)",
+        "quickest": "(land, one, other)", "errand": "(land, home, order, minutes)",
+        "Order": {"__init__": "(self, places, minute)"},
+        "best_order": "(land, weather, starts, home, places, minutes, kept)",
+    },
+    "book": {
+        "Book": {
+            "__init__": "(self)",
+            "set_land": "(self, name, land)", "remove_land": "(self, name)",
+            "set_case": "(self, name, land_name, weather, starts, breaks)", "remove_case": "(self, name)",
+            "add_start": "(self, name, place, minute)", "add_break": "(self, name, place, minute)",
+            "drop_breaks": "(self, name, place)", "undo": "(self)", "redo": "(self)", "change_all": "(self, changes)",
+            "land_names": "(self)", "case_names": "(self)", "land": "(self, name)", "case": "(self, name)",
+            "answers": "(self, name)", "answer": "(self, name, place)",
+        },
+    },
+    "commands": {"split_words": "(line)", "is_command": "(words)", "row_of": "(words)"},
+    "session": {"Session": {"__init__": "(self)", "run": "(self, text)"}},
 }
-LIBRARY = {"heapq": {"heappush", "heappop", "heapify"}}
+LIBRARY = {"heapq": {"heappush", "heappop", "heapify"}, "itertools": {"permutations"}}
 METHODS = set(
     "append clear copy count endswith extend find get index insert isalnum isalpha isdigit islower isspace isupper"
     " items join keys ljust lower lstrip partition pop remove replace reverse rfind rjust rpartition rsplit rstrip"
