@@ -2,18 +2,28 @@
 
 from heapq import heapify, heappop, heappush
 
+from everyfire.errors import InvalidQuestion
 from everyfire.weathers import check_rows, check_winds, spells_of
 
 
 def ask(land, weather, starts, breaks, places=()):
     """Return the Question, once its names, the further places and the weather are looked at in this order."""
-    check_winds(land, weather)
+    return ask_all(land, [weather], starts, breaks, places)[0]
+
+
+def ask_all(land, weathers, starts, breaks, places=()):
+    """Return the list of the Questions for one or more weathers, once all of them are looked at in this order."""
+    for weather in weathers:
+        check_winds(land, weather)
     for place, _ in [*starts, *breaks]:
         land.check_place(place)
     for place in places:
         land.check_place(place)
-    check_rows(weather)
-    return Question(land, weather, starts, breaks)
+    for weather in weathers:
+        check_rows(weather)
+    if len(weathers) == 0:
+        raise InvalidQuestion("no weather is told")
+    return [Question(land, weather, starts, breaks) for weather in weathers]
 
 
 def least_minutes(rows):

@@ -53,6 +53,15 @@ def random_question(chance, **sizes):
     return land, random_weather(chance, land), starts, breaks
 
 
+def spread_question(chance, breaks=2):
+    """Return a question in which a good part of the land burns, with several links between the same places."""
+    land = random_land(chance, places=6, links=16, longest=3, shut=0.15)
+    starts = [(chance.choice(land.places), chance.randint(0, 3))]
+    others = [place for place in land.places if place != starts[0][0]]
+    told = [(chance.choice(others), chance.randint(1, 12)) for _ in range(chance.randint(0, breaks))]
+    return land, random_weather(chance, land), starts, told
+
+
 def random_paths(chance, land, paths=9, longest=5):
     """Return the land with further paths."""
     for _ in range(paths):

@@ -106,6 +106,53 @@ False
 >>> session.run("land l\\nwinds calm\\nplaces a b\\nlink ab a b 3-9\\nend\\ncase k l\\nwind 0 calm\\nstart a 0\\nbreak b 5\\nend\\nstates k\\nfree k b\\nask k b")
 ['ok', 'ok', 'ok', 'ok', 'a: surely', 'b: maybe', 'ok', 'b: surely']
 ''',
+    "texts": '''
+>>> from everyfire.lands import Land
+>>> from everyfire.texts import check_text, parse_question, question_text
+>>> question_text([(0, "west")], [("hill", 3)], [("wood", 20)])
+'question\\nwind 0 west\\nstart hill 3\\nbreak wood 20'
+>>> parse_question("question\\nstart hill 3")
+([], [('hill', 3)], [])
+>>> land = Land(winds=["west"], places=["hill", "wood"], links=[("l", "hill", "wood", [(5, 9)])])
+>>> check_text(land, [(0, "west")], [("hill", 3)], [], "wood", "surely\\ncatch hill - 3\\ncatch wood l 12")
+True
+>>> check_text(land, [(0, "west")], [("hill", 3)], [], "wood", "never\\nlabel hill 3")
+False
+>>> check_text(land, [(0, "west")], [("hill", 3)], [], "wood", "label hill 3")
+raises InvalidPaper
+''',
+    "compared": '''
+>>> from everyfire.compared import idle_links, is_never_slower, needed_links
+>>> from everyfire.lands import Land
+>>> links = [("l", "hill", "wood", [(5, 9)]), ("m", "hill", "wood", [(7, 9)])]
+>>> land = Land(winds=["west"], places=["hill", "wood"], links=links)
+>>> idle_links(land, [(0, "west")], [("hill", 3)], [])
+['m']
+>>> needed_links(land.without_link("m"), [(0, "west")], [("hill", 3)], [], "wood")
+['l']
+>>> (is_never_slower(land, land.without_link("m")), is_never_slower(land.without_link("m"), land))
+(True, False)
+''',
+    "forecasts": '''
+>>> from everyfire.forecasts import any_weather, burnt, every_weather
+>>> from everyfire.lands import Land
+>>> links = [("ab", "a", "b", [(4, 9), (6, 7)]), ("bc", "b", "c", [None, (2, 3)])]
+>>> land = Land(winds=["north", "west"], places=["a", "b", "c"], links=links)
+>>> any_weather(land, [("a", 1)], [])
+[('a', 1), ('b', 5), ('c', 7)]
+>>> every_weather(land, [("a", 1)])
+['a', 'b']
+>>> burnt(land, [(0, "north")], [("a", 1)], [], 8)
+(1, 2)
+''',
+    "refuges": '''
+>>> from everyfire.lands import Land
+>>> from everyfire.refuges import last_departure, safe_walk
+>>> links = [("l1", "a", "b", [(2, 5)])]
+>>> land = Land(winds=["calm"], places=["a", "b", "c"], links=links, paths=[("b", "c", 7)])
+>>> (safe_walk(land, [(0, "calm")], [("a", 0)], [], "b", 1), last_departure(land, [(0, "calm")], [("a", 0)], [], "b"))
+([('b', 1), ('c', 8)], ('until', 1))
+''',
 }
 
 

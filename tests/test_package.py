@@ -83,6 +83,26 @@ INTERFACE = {
     },
     "commands": {"split_words": "(line)", "is_command": "(words)", "row_of": "(words)"},
     "session": {"Session": {"__init__": "(self)", "run": "(self, text)"}},
+    "texts": {
+        "question_text": "(weather, starts, breaks)", "parse_question": "(text)",
+        "paper_text": "(told)", "parse_paper": "(text)",
+        "check_text": "(land, weather, starts, breaks, place, text)",
+    },
+    "compared": {
+        "is_never_slower": "(one, other)", "burning_earlier": "(one, other, weather, starts, breaks)",
+        "idle_links": "(land, weather, starts, breaks)", "lean_land": "(land, weather, starts, breaks)",
+        "needed_links": "(land, weather, starts, breaks, place)",
+    },
+    "forecasts": {
+        "any_weather": "(land, starts, breaks)", "every_weather": "(land, starts)",
+        "forecast": "(land, weathers, starts, breaks)", "first_danger": "(land, weathers, starts, breaks, places)",
+        "burnt": "(land, weather, starts, breaks, minute)", "growth": "(land, weather, starts, breaks)",
+    },
+    "refuges": {
+        "safe_walk": "(land, weather, starts, breaks, place, minute)",
+        "is_safe_walk": "(land, weather, starts, breaks, rows)",
+        "last_departure": "(land, weather, starts, breaks, place)", "refuges": "(land, weather, starts, breaks, minute)",
+    },
 }
 LIBRARY = {"heapq": {"heappush", "heappop", "heapify"}, "itertools": {"permutations"}}
 METHODS = set(
